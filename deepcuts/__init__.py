@@ -1,0 +1,1 @@
+"""Deepcuts: filters of labelled trees in any order."""
