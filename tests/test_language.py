@@ -21,6 +21,8 @@ def content(name):
 TABLE = {name: content(name) for name in FILES}
 TREES = {name: ast.parse(text) for name, text in TABLE.items()}
 
+# An interactive example, as doctest runs them, leaves its last value in `_`, which is no builtin.
+BUILT_IN_NAMES = set(dir(builtins)) - {"_"}
 LIBRARY = {"heapq", "math", "itertools"}
 BUILTINS = set("""len range enumerate zip min max sum abs sorted reversed int str bool bytes list tuple dict set
     frozenset isinstance ord repr any all divmod iter next map property staticmethod classmethod super
@@ -131,7 +133,7 @@ class Statements(unittest.TestCase):
 class Names(unittest.TestCase):
     def test_names_bound(self):
         for file, name in names_bound():
-            self.assertNotIn(name, BARRED_NAMES | set(dir(builtins)) | BARRED_WORDS, file)
+            self.assertNotIn(name, BARRED_NAMES | BUILT_IN_NAMES | BARRED_WORDS, file)
             self.assertFalse(name.startswith(BARRED_STARTS) or name.rstrip("_0123456789") in BARRED_WHOLE, (file, name))
             self.assertFalse(keyword.issoftkeyword(name) and name != "_", (file, name))
             if name.startswith("__"):
@@ -147,7 +149,7 @@ class Names(unittest.TestCase):
 
     def test_builtins_read(self):
         for file, node in walk(ast.Name):
-            if hasattr(builtins, node.id) and not node.id.startswith("__"):
+            if node.id in BUILT_IN_NAMES:
                 self.assertIn(node.id, BUILTINS, (file, node.lineno))
 
     def test_methods_called_are_own_or_known(self):
