@@ -1,21 +1,51 @@
+import os
 import unittest
 
-from deepcuts.forests import Forest, chain, is_trees
-from deepcuts.labels import Labels, is_name
-from deepcuts.steps import Step
+from deepcuts import behind, forests, forms, labels, order, pipelines, steps
 from tests import examples
 
-NAMES = {"Forest": Forest, "chain": chain, "is_trees": is_trees, "Labels": Labels, "is_name": is_name, "Step": Step}
+DOCUMENT = os.path.join(os.path.dirname(__file__), "..", "..", "shared", "DOC.md")
+MODULES = (labels, forests, steps, pipelines, forms, order, behind)
+# The points with examples, and how many lines of code each one has.
+POINTS = {4: 11, 5: 12, 6: 7, 7: 16, 8: 7}
+
+
+def public_names():
+    """What the modules define, by name."""
+    found = {}
+    for module in MODULES:
+        for name, value in vars(module).items():
+            if getattr(value, "__module__", "") == module.__name__:
+                found[name] = value
+    return found
+
+
+def file_of(point):
+    return f"point_{point:02d}.txt"
+
+
+def lines_of(text, point):
+    """The lines of the examples of a point of the document."""
+    body = text.split(f"\n**[{point}]**")[1].split("\n## ")[0]
+    return [line[4:] for line in body.split("\n") if line.startswith("    ")]
 
 
 class Examples(unittest.TestCase):
-    def test_point_4(self):
-        self.assertEqual(len(examples.read("point_04.txt")), 11)
-        self.assertEqual(examples.failures("point_04.txt", dict(NAMES)), [])
+    def test_all_in_order(self):
+        # A later point uses names that an earlier one has given.
+        names = public_names()
+        for point, many in POINTS.items():
+            with self.subTest(point=point):
+                self.assertEqual(len(examples.read(file_of(point))), many)
+                self.assertEqual(examples.failures(file_of(point), names), [])
 
-    def test_point_5_steps(self):
-        self.assertEqual(len(examples.read("point_05_steps.txt")), 5)
-        self.assertEqual(examples.failures("point_05_steps.txt", dict(NAMES)), [])
+    @unittest.skipUnless(os.path.exists(DOCUMENT), "the document is not here")
+    def test_they_stand_in_the_document_word_for_word(self):
+        with open(DOCUMENT, encoding="utf-8") as file:
+            text = file.read()
+        for point in POINTS:
+            with open(os.path.join(examples.FOLDER, file_of(point)), encoding="utf-8") as file:
+                self.assertEqual(file.read().splitlines(), lines_of(text, point), point)
 
     def test_the_runner_sees_what_is_wrong(self):
         self.assertEqual(examples.compare("1 + 1", "2", {}), None)
@@ -24,7 +54,7 @@ class Examples(unittest.TestCase):
         self.assertEqual(examples.compare("[1]", "(1,)", {}), "[1]")
         self.assertEqual(examples.compare("1", "raises BadText()", {}), "1")
         told = "raises NoPlace(place=4)"
-        self.assertEqual(examples.compare("Forest()[5]", told, dict(NAMES)), "raises NoPlace(place=5)")
+        self.assertEqual(examples.compare("Forest()[5]", told, public_names()), "raises NoPlace(place=5)")
 
 
 if __name__ == "__main__":

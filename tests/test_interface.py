@@ -14,8 +14,32 @@ CALLED = [
     ("forests", "Forest", ["trees"]),
     ("forests", "chain", ["names"]),
     ("steps", "Step", ["kind", "what"]),
+    ("pipelines", "Pipeline", ["steps"]),
+    ("forms", "is_form", ["thing"]),
+    ("forms", "pipeline_of", ["form"]),
+    ("order", "compare", ["p", "q"]),
+    ("order", "parting_forest", ["p", "q"]),
+    ("order", "outside_forest", ["p", "q"]),
+    ("order", "more_forest", ["p", "q"]),
+    ("order", "both_forest", ["p", "q"]),
+    ("order", "over", ["p", "names"]),
+    ("order", "above", ["p", "names"]),
+    ("order", "below", ["p", "names"]),
+    ("order", "many_between", ["p", "q", "names"]),
+    ("order", "nth_between", ["p", "q", "names", "number"]),
+    ("order", "rank_between", ["p", "q", "names", "third"]),
+    ("behind", "rest_of", ["p", "whole"]),
+    ("behind", "front_of", ["p", "whole"]),
+    ("behind", "either_order", ["p", "other"]),
+    ("behind", "steady", ["p"]),
+    ("behind", "idle_behind", ["p", "other"]),
+    ("behind", "renames", ["p"]),
+    ("behind", "first_ones", ["pipelines"]),
+    ("behind", "common_end", ["p", "other"]),
+    ("behind", "settles", ["p"]),
+    ("behind", "how_often", ["p", "other"]),
 ]
-STATIC = [("labels", "Labels"), ("forests", "Forest"), ("steps", "Step")]
+STATIC = [("labels", "Labels"), ("forests", "Forest"), ("steps", "Step"), ("pipelines", "Pipeline")]
 METHODS = {
     ("labels", "Labels"): {"within": ["b"], "__contains__": None, "__or__": None, "__and__": None, "__sub__": None,
                            "__eq__": None},
@@ -23,11 +47,16 @@ METHODS = {
                             "under": ["name"], "__len__": None, "__getitem__": None, "__iter__": None, "__add__": None,
                             "__eq__": None},
     ("steps", "Step"): {"places": ["forest"], "__call__": ["forest"], "__eq__": None},
+    ("pipelines", "Pipeline"): {"places": ["forest"], "__call__": ["forest"], "room": ["label"], "final": ["label"],
+                                "within": ["q"], "__len__": None, "__getitem__": None, "__iter__": None,
+                                "__rshift__": None,
+                                "__mul__": None, "__and__": None, "__or__": None, "__eq__": None},
 }
 PROPERTIES = {
     ("labels", "Labels"): ("names", "rest", "text", "other"),
     ("forests", "Forest"): ("trees", "text", "names", "depth"),
     ("steps", "Step"): ("kind", "what", "text"),
+    ("pipelines", "Pipeline"): ("steps", "text", "form", "left", "depth", "plain"),
 }
 
 
@@ -46,6 +75,7 @@ class Interface(unittest.TestCase):
         self.assertEqual(inspect.signature(found("labels", "Labels")).parameters["names"].default, ())
         self.assertIs(inspect.signature(found("labels", "Labels")).parameters["rest"].default, False)
         self.assertEqual(inspect.signature(found("forests", "Forest")).parameters["trees"].default, ())
+        self.assertEqual(inspect.signature(found("pipelines", "Pipeline")).parameters["steps"].default, ())
 
     def test_methods_stand_in_the_class_itself(self):
         for key, methods in METHODS.items():

@@ -125,6 +125,49 @@ class Statements(unittest.TestCase):
         for file, node in walk(ast.Raise):
             self.assertTrue(node.exc is None or isinstance(node.exc, ast.Call), (file, node.lineno))
 
+    def test_sets_stand_in_a_call_or_in_a_plain_variable(self):
+        parents = {child: node for _, node in walk(ast.AST) for child in ast.iter_child_nodes(node)}
+        sets = [(file, node) for file, node in walk((ast.Set, ast.SetComp))]
+        sets += [(file, node) for file, node in walk(ast.Call) if ast.unparse(node.func) == "set"]
+        for file, node in sets:
+            parent = parents[node]
+            if isinstance(parent, ast.Call):
+                self.assertIn(ast.unparse(parent.func), ("sorted", "len"), (file, node.lineno))
+                self.assertEqual(parent.keywords, [], (file, node.lineno))
+            else:
+                self.assertIsInstance(parent, (ast.Assign, ast.Compare), (file, node.lineno))
+
+    def test_stars_and_keywords_of_calls(self):
+        for file, node in walk(ast.Call):
+            if isinstance(node.func, ast.Name) and node.func.id in BUILT_IN_NAMES:
+                told = {row.arg for row in node.keywords}
+                self.assertLessEqual(told, {"key", "default", "start", "strict", "reverse"}, (file, node.lineno))
+                starred = any(isinstance(row, ast.Starred) for row in node.args)
+                self.assertFalse(starred and node.func.id not in ("min", "max", "zip"), (file, node.lineno))
+
+    def test_the_library_is_only_called(self):
+        for file, tree in TREES.items():
+            rows = [row for row in tree.body if isinstance(row, ast.ImportFrom) and row.module in LIBRARY]
+            taken = {alias.name for row in rows for alias in row.names}
+            self.assertLessEqual(taken, {"comb", "lcm", "gcd"}, file)
+            calls = [node for node in ast.walk(tree) if isinstance(node, ast.Call) and ast.unparse(node.func) in taken]
+            named = [node for node in ast.walk(tree) if isinstance(node, ast.Name) and node.id in taken]
+            self.assertEqual(len(calls), len(named), file)
+            for call in calls:
+                starred = any(isinstance(row, ast.Starred) for row in call.args)
+                self.assertFalse(call.keywords or starred, (file, call.lineno))
+
+    def test_no_file_imports_one_that_imports_it(self):
+        below = {}
+        for file, tree in TREES.items():
+            modules = [row.module for row in tree.body if isinstance(row, ast.ImportFrom) and row.module not in LIBRARY]
+            below[file] = {module.split(".")[1] + ".py" for module in modules}
+        while below:
+            free = [file for file, others in below.items() if not others & set(below)]
+            self.assertTrue(free, sorted(below))
+            for file in free:
+                del below[file]
+
     def test_lists_where_a_class_has_equality(self):
         for file, node in walk(ast.GeneratorExp):
             self.fail((file, node.lineno))
@@ -195,6 +238,20 @@ class Classes(unittest.TestCase):
             if "__eq__" in methods:
                 told = ast.unparse(methods["__eq__"].body[0])
                 self.assertTrue(told.startswith(f"return isinstance(other, {node.name}) and "), (file, node.name))
+
+    def test_no_property_has_the_name_of_a_method_or_an_attribute(self):
+        rows = [row for _, node in walk(ast.ClassDef) for row in node.body if isinstance(row, ast.FunctionDef)]
+        told = {row.name for row in rows if [ast.unparse(one) for one in row.decorator_list] == ["property"]}
+        plain = {row.name for row in rows if row.decorator_list == []}
+        attributes = {node.attr for _, node in walk(ast.Attribute) if isinstance(node.ctx, ast.Store)}
+        self.assertEqual(told & (plain | attributes | BUILT_IN_METHODS), set())
+
+    def test_operators_have_the_parameters_of_operators(self):
+        for file, node in walk(ast.FunctionDef):
+            if node.name.startswith("__") and node.name not in ("__init__", "__call__"):
+                told = [row.arg for row in node.args.args]
+                self.assertIn(told, (["self"], ["self", "other"], ["self", "at"], ["self", "x"]), (file, node.name))
+                self.assertEqual(node.args.defaults, [])
 
     def test_operators_and_properties_add_without_in_place_signs(self):
         self.assertEqual([(file, node.lineno) for file, node in walk(ast.AugAssign)], [])
