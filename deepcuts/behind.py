@@ -4,7 +4,7 @@ from math import lcm
 
 from deepcuts.algebra import many_times, one_behind
 from deepcuts.forms import pipeline_of
-from deepcuts.rooms import (NOTHING, UNCHANGED, at_most, formed, labels_of, left_room, lesser, told_in_form, treated)
+from deepcuts.rooms import NOTHING, UNCHANGED, at_most, formed, labels_of, left_room, lesser, told_in_form, treated
 
 
 def coming_out(form, whole):
@@ -105,11 +105,11 @@ def least_ones(labels, forms):
         for label in labels:
             last = treated(form, label)[0]
             if last is not None:
-                join(least, firsts.setdefault(last, label), label)
+                unite(least, firsts.setdefault(last, label), label)
     return least
 
 
-def join(least, one, label):
+def unite(least, one, label):
     """Lets two labels go together, with all that go together with one of them."""
     low, high = sorted([least[one], least[label]])
     for name in list(least):
