@@ -1,13 +1,18 @@
 """What can be done with FORMs: one within another, both, either, one behind another, many times."""
 
-from deepcuts.rooms import UNCHANGED, at_most, formed, greater, labels_for, labels_of, lesser, told_in_form, treated
+from deepcuts.rooms import (UNCHANGED, at_most, formed, greater, labels_for, labels_of, lesser, told_in_form, treated,
+                            treated_all)
+
+
+def side_by_side(form, other):
+    """The rows (label, pair, pair) of the labels that two FORMs tell, each with its (last, room) in both."""
+    labels = labels_of(form, other)
+    return list(zip(labels, treated_all(form, labels), treated_all(other, labels)))
 
 
 def is_within(form, other):
     """Whether what form keeps is kept by the other one, for ALL forests."""
-    for label in labels_of(form, other):
-        last, room = treated(form, label)
-        kept, limit = treated(other, label)
+    for _, (last, room), (kept, limit) in side_by_side(form, other):
         if (last is not None and kept is None) or not at_most(room, limit):
             return False
     return True
@@ -16,9 +21,7 @@ def is_within(form, other):
 def both_forms(form, other):
     """The greatest FORM without renames within both."""
     rows = []
-    for label in labels_of(form, other):
-        last, room = treated(form, label)
-        kept, limit = treated(other, label)
+    for label, (last, room), (kept, limit) in side_by_side(form, other):
         left = last is not None and kept is not None
         rows.append((label, label if left else None, lesser(room, limit)))
     return formed(rows)
@@ -28,9 +31,7 @@ def either_form(form, other):
     """The least FORM without renames around both."""
     rows = []
     own = 0
-    for label in labels_of(form, other):
-        last, room = treated(form, label)
-        kept, limit = treated(other, label)
+    for label, (last, room), (kept, limit) in side_by_side(form, other):
         left = last is not None or kept is not None
         rows.append((label, label if left else None, greater(room, limit)))
         if left:
@@ -43,12 +44,11 @@ def either_form(form, other):
 def one_behind(form, other):
     """The FORM of what goes through form and then through the other one."""
     rows = []
-    for label in labels_of(form, other):
-        name, room = treated(form, label)
-        if name is not None:
-            name, limit = treated(other, name)
-            room = lesser(room, limit)
-        rows.append((label, name, room))
+    labels = labels_of(form, other)
+    ahead = treated_all(form, labels)
+    behind = treated_all(other, [name for name, _ in ahead])
+    for label, (name, room), (last, limit) in zip(labels, ahead, behind):
+        rows.append((label, None, room) if name is None else (label, last, lesser(room, limit)))
     return formed(rows)
 
 

@@ -4,7 +4,8 @@ from math import lcm
 
 from deepcuts.algebra import many_times, one_behind
 from deepcuts.forms import pipeline_of
-from deepcuts.rooms import NOTHING, UNCHANGED, at_most, formed, labels_of, left_room, lesser, told_in_form, treated
+from deepcuts.rooms import (NOTHING, UNCHANGED, at_most, formed, labels_of, left_room, lesser, renames_some,
+                            told_in_form, treated)
 
 
 def coming_out(form, whole):
@@ -86,7 +87,7 @@ def idle_behind(p, other):
 
 def renames(p):
     """Whether some label that is left has another last name."""
-    return any([last is not None and last != name for name, last, _ in p.form[0]])
+    return renames_some(p.form)
 
 
 def first_ones(pipelines):

@@ -26,6 +26,17 @@ def greater(room, other):
     return other if at_most(room, other) else room
 
 
+def least_room(rooms):
+    """The least one of these rooms, None if there are none."""
+    return min([room for room in rooms if room is not None], default=None)
+
+
+def are_enough(rooms, first=1):
+    """Whether the rooms, in ascending order, are at least first, first + 1 and so on."""
+    numbers = sorted([room for room in rooms if room is not None])
+    return all([room >= first + at for at, room in enumerate(numbers)])
+
+
 def name_at(number):
     """The NAME with this number of a, b, .., z, aa, ab, .., counted from 0."""
     many = len(LETTERS)
@@ -116,6 +127,17 @@ def treated(form, label):
     return like_rest(form[1], label)
 
 
+def treated_all(form, labels):
+    """The pairs (last, room) of these labels, in order."""
+    told = {row[0]: row[1:] for row in form[0]}
+    return [told[label] if label in told else like_rest(form[1], label) for label in labels]
+
+
+def renames_some(form):
+    """Whether some label that is left has another last name."""
+    return any([last is not None and last != name for name, last, _ in form[0]])
+
+
 def left_room(form):
     """The room of the labels that are left, 0 if there are none."""
     for _, last, room in form[0]:
@@ -136,6 +158,12 @@ def left_labels(form):
     """The Labels that are left."""
     rest = form[1][0]
     return Labels([name for name, last, _ in form[0] if (last is not None) != rest], rest)
+
+
+def roomy_labels(form, least):
+    """The Labels that have at least this room, a number."""
+    rest = at_most(least, form[1][1])
+    return Labels([name for name, _, room in form[0] if at_most(least, room) != rest], rest)
 
 
 def gone_labels(form, room):

@@ -43,6 +43,8 @@ METHODS = set("""append clear copy count endswith extend find get index insert i
 BUILT_IN_METHODS = {name for kind in (str, int, list, tuple, dict, set, bytes) for name in dir(kind)}
 NODES_BARRED = (ast.Global, ast.AsyncFunctionDef, ast.AsyncFor, ast.AsyncWith, ast.Await, ast.Import, ast.Div, ast.MatMult)
 
+OPERATOR_PARAMETERS = (["self"], ["self", "other"], ["self", "at"], ["self", "x"], ["self", "at", "worth"])
+
 
 def walk(kind):
     """All pairs (file, node) of this kind."""
@@ -250,7 +252,7 @@ class Classes(unittest.TestCase):
         for file, node in walk(ast.FunctionDef):
             if node.name.startswith("__") and node.name not in ("__init__", "__call__"):
                 told = [row.arg for row in node.args.args]
-                self.assertIn(told, (["self"], ["self", "other"], ["self", "at"], ["self", "x"]), (file, node.name))
+                self.assertIn(told, OPERATOR_PARAMETERS, (file, node.name))
                 self.assertEqual(node.args.defaults, [])
 
     def test_operators_and_properties_add_without_in_place_signs(self):
