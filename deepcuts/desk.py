@@ -60,9 +60,9 @@ def given_frame(text):
 
 # What stands behind the first word of a request, if anything does.
 GIVEN = {"view": given_named_pipeline, "leave": given_name, "lift": given_name, "step": given_named_step,
-         "frame": given_frame, "house": given_pipeline, "put": given_new_label, "call": given_label, "take": given_place,
-         "unwrap": given_place, "shown": given_name, "seen": given_name, "effect": given_named_pipeline,
-         "room": given_label_of_name}
+         "frame": given_frame, "house": given_pipeline, "put": given_new_label, "call": given_label,
+         "take": given_place, "unwrap": given_place, "shown": given_name, "seen": given_name,
+         "effect": given_named_pipeline, "room": given_label_of_name}
 ALONE = ("page", "common", "unseen", "idle", "undo")
 
 # The words of the deeds that a Board attempts.

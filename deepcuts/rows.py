@@ -98,25 +98,25 @@ def unlike_pair(filters):
     return None
 
 
-def most_order(filters):
-    """The least order within which each order is; None if there is none."""
+def order_of_all(filters, joined):
+    """The least order of the FORM that all orders make together, two joined at a time; None if it has no order."""
     found = all_forms(filters)
     forms = list(found)
-    most = forms[0]
+    together = forms[0]
     for form in forms:
-        most = either_form(most, form)
-    # One around all orders is around the least FORM around all of them, and so it is just that.
-    return found.get(most)
+        together = joined(together, form)
+    return found.get(together)
+
+
+def most_order(filters):
+    """The least order within which each order is; None if there is none."""
+    # One around all orders is around the least FORM around all of them, and within it: it is this FORM.
+    return order_of_all(filters, either_form)
 
 
 def least_order(filters):
     """The least order that is within each order; None if there is none."""
-    found = all_forms(filters)
-    forms = list(found)
-    least = forms[0]
-    for form in forms:
-        least = both_forms(least, form)
-    return found.get(least)
+    return order_of_all(filters, both_forms)
 
 
 def kept_by_each(filters, forest):
