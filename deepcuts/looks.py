@@ -28,7 +28,7 @@ def checked(span):
 def left_span(left, looks):
     """The span of the one room of the NAMEs that are left."""
     spans = [span_at(looks, name) for name in left]
-    for name in sorted(set([look[0] for look in looks])):
+    for name in [look[0] for look in looks]:
         low, high = checked(span_at(looks, name))
         # One that is not left and has a room at all has as much as those that are left.
         if name not in left and low > 0:

@@ -23,7 +23,7 @@ def stays_by_runs(pipeline, runs):
     above = [(pipeline.room(name), number) for name, number in runs[:-1]] + [(pipeline.room(last), many - 1)]
     total = 0
     # The last node of each run, by rooms, asks for the most.
-    for room, number in sorted([(room, number) for room, number in above if room is not None and number > 0]):
+    for room, number in sorted([(room, number) for room, number in above if room is not None]):
         total = total + number
         if total > room:
             return False
@@ -89,7 +89,7 @@ def is_reason(pipeline, path, thing):
 def dearest(rooms, prices):
     """The places of nodes above the last one that can stand there together, with the greatest sum of prices."""
     kept = []
-    # The dearest ones first: whichever nodes are kept, as many as can be join them, so that no exchange is better.
+    # Sets of nodes that can stand there are those of a matroid: to take the dearest one that can join is best.
     for place in sorted(range(len(rooms)), key=lambda at: prices[at], reverse=True):
         if are_enough([rooms[at] for at in kept + [place]]):
             kept.append(place)

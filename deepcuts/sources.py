@@ -195,7 +195,7 @@ class Live:
         if room is None:
             return None
         ends = [room] + [own for own in rooms if own is not None and own > room]
-        return max(0, min([end - held(rooms, end) for end in ends]))
+        return min([end - held(rooms, end) for end in ends])
 
     def copied(self):
         """A Live in the same state, which goes on by itself."""

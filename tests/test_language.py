@@ -147,6 +147,32 @@ class Statements(unittest.TestCase):
                 starred = any(isinstance(row, ast.Starred) for row in node.args)
                 self.assertFalse(starred and node.func.id not in ("min", "max", "zip"), (file, node.lineno))
 
+    def test_behind_a_star_stands_a_name(self):
+        for file, node in walk(ast.Call):
+            for row in node.args:
+                if isinstance(row, ast.Starred):
+                    self.assertIsInstance(row.value, ast.Name, (file, node.lineno))
+            self.assertNotIn(None, [row.arg for row in node.keywords], (file, node.lineno))
+
+    def test_exponents_are_literals(self):
+        for file, node in walk(ast.BinOp):
+            if isinstance(node.op, ast.Pow):
+                self.assertIsInstance(node.right, ast.Constant, (file, node.lineno))
+
+    def test_tables_have_functions_of_their_own_file(self):
+        for file, tree in TREES.items():
+            imported = {alias.name for row in tree.body if isinstance(row, ast.ImportFrom) for alias in row.names}
+            for row in tree.body:
+                if isinstance(row, ast.Assign):
+                    named = {node.id for node in ast.walk(row.value) if isinstance(node, ast.Name)}
+                    self.assertEqual(named & imported, set(), (file, row.lineno))
+
+    def test_errors_that_are_caught_are_own_ones(self):
+        own = {node.name for _, node in walk(ast.ClassDef)}
+        for file, node in walk(ast.ExceptHandler):
+            caught = node.type.elts if isinstance(node.type, ast.Tuple) else [node.type]
+            self.assertLessEqual({ast.unparse(row) for row in caught}, own, (file, node.lineno))
+
     def test_the_library_is_only_called(self):
         for file, tree in TREES.items():
             rows = [row for row in tree.body if isinstance(row, ast.ImportFrom) and row.module in LIBRARY]

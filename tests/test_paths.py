@@ -170,6 +170,12 @@ class Reasons(unittest.TestCase):
                 self.assertIsInstance(found, tuple)
         self.assertGreater(min(seen), 200)
 
+    def test_places_of_unlike_rooms(self):
+        pipeline = Pipeline.of("cut 3; unwrap b; cut 2")
+        self.assertEqual(why_goes(pipeline, ("b", "a", "b", "a")), (0, 1, 2))
+        self.assertEqual(why_goes(pipeline, ("b", "b", "a", "a")), (0, 1, 2))
+        self.assertIsNone(why_goes(pipeline, ("b", "a", "a")))
+
     def test_all_sets_of_places(self):
         random = Random(66)
         for _ in range(300):

@@ -166,6 +166,7 @@ class Programs(unittest.TestCase):
                 else:
                     self.refused(text)
                     self.refused(f"cut 2; {text}")
+                    self.refused(f"(cut 2) x 2; {text}")
         self.refused("(" * 1000)
         self.refused("(" * 400 + "cut 1" + ") x 1" * 100)
         deep = "rename a=b b=a"
